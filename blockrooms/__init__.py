@@ -1,0 +1,1 @@
+"""Blockrooms: spaces put together of blocks, and surfaces within."""

@@ -1,0 +1,38 @@
+"""The interface's rows: names, arguments, and the file that each one is defined in."""
+
+import importlib
+import inspect
+import unittest
+
+# Names that stand behind a star are handed by their names alone.
+FUNCTIONS = {
+    "spaces": ["space_of(blocks)", "joined(space, block, face, *, other, turn)", "parted(space, block, face)",
+               "beside(one, other)", "renamed(space, order, turns)"],
+    "texts": ["space_text(space)", "read_space(text)"],
+}
+CLASSES = {
+    "errors": ["RoomError", "NoSpace", "NoFace", "NoTurn", "NoName", "NoLine", "NoCorner", "NoNumbers", "NoSurface",
+               "NoMove", "NoForm", "NoneYet"],
+}
+
+
+class TestInterface(unittest.TestCase):
+    def test_functions(self):
+        for file, rows in FUNCTIONS.items():
+            module = importlib.import_module("blockrooms." + file)
+            for row in rows:
+                function = getattr(module, row.partition("(")[0])
+                self.assertTrue(inspect.isfunction(function), row)
+                self.assertEqual(function.__module__, module.__name__, row)
+                self.assertEqual(function.__name__ + str(inspect.signature(function)), row)
+
+    def test_classes(self):
+        for file, names in CLASSES.items():
+            module = importlib.import_module("blockrooms." + file)
+            for name in names:
+                self.assertTrue(inspect.isclass(getattr(module, name)), name)
+                self.assertEqual(getattr(module, name).__module__, module.__name__, name)
+
+
+if __name__ == "__main__":
+    unittest.main()
