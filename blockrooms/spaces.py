@@ -38,6 +38,11 @@ def contrary(turn):
     return tuple([turn.index(corner) for corner in range(4)])
 
 
+def is_odd(turn):
+    """Whether the turn is an odd one, as just those are that change the order of an odd number of pairs."""
+    return len([1 for late in range(4) for early in range(late) if turn[early] > turn[late]]) % 2 == 1
+
+
 def space_of(blocks):
     """The space of a list of blocks of lists."""
     if not is_listed(blocks) or not blocks:

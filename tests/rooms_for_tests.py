@@ -1,5 +1,6 @@
 """Spaces and checks that several tests share."""
 
+from functools import cache
 from itertools import permutations, product
 
 SAME = (0, 1, 2, 3)
@@ -22,6 +23,24 @@ CHAIN = (((1, (3, 1, 0, 2)), None, None, None),
 
 SPACES = [ALONE, FOLDED, CLOSED, PAIR, DOUBLE, CHAIN]
 
+# A ball: four blocks around a new corner within a block; block c has the new one in the place of corner c.
+BALL = tuple(tuple(None if f == c else (f, tuple({c: f, f: c}.get(k, k) for k in range(4))) for f in range(4))
+             for c in range(4))
+# One corner each, around it a bottle that does not turn, and a torus; no edge is bent.
+BOTTLE = (((0, (1, 2, 0, 3)), (0, (2, 0, 1, 3)), (0, (0, 2, 3, 1)), (0, (0, 3, 1, 2))),)
+TORUS = (((1, (0, 1, 3, 2)), (1, (1, 2, 3, 0)), (1, (2, 3, 1, 0)), (1, (2, 1, 0, 3))),
+         ((0, (0, 1, 3, 2)), (0, (3, 2, 0, 1)), (0, (3, 0, 1, 2)), (0, (2, 1, 0, 3))))
+# Corner 1 of it lies in a ring of triangles that is twisted; corner 1 of the other one in one that is not.
+TWISTED = (((0, (1, 2, 0, 3)), (0, (2, 0, 1, 3)), None, None),)
+RING = ((None, None, (1, (0, 3, 2, 1)), (1, (2, 3, 1, 0))), ((0, (3, 2, 0, 1)), None, (0, (0, 3, 2, 1)), None))
+# No corner is odd, but an edge is bent: outer ones alone; inner ones alone.
+BENT = ((None, None, (0, (1, 0, 3, 2)), (0, (1, 0, 3, 2))),)
+BENT_WITHIN = (((0, (1, 0, 3, 2)), (0, (1, 0, 3, 2)), (0, (1, 0, 3, 2)), (0, (1, 0, 3, 2))),)
+# Edge 0 to 2 is one with 2 to 1: the first ones of both directions go up.
+ASLANT = (((0, (3, 2, 0, 1)), None, None, (0, (2, 3, 1, 0))),)
+
+MORE_SPACES = [BALL, BOTTLE, TORUS, TWISTED, RING, BENT, BENT_WITHIN, ASLANT]
+
 
 def as_lists(thing):
     """The same, of lists through and through."""
@@ -42,6 +61,59 @@ def _joining_is_told(joining):
         return False
     other, turn = joining
     return type(other) is int and type(turn) is tuple and all(type(c) is int for c in turn)
+
+
+def place(space, block, corner):
+    """The place of a block's corner among the space's corners, by merging alone."""
+    return [(block, corner) in row for row in merged_corners(space)].index(True)
+
+
+def merged(things, pairs):
+    """Lots of things, those of a pair in one lot, each sorted, by their first ones."""
+    lot = {thing: [thing] for thing in things}
+    for one, other in pairs:
+        if lot[one] is not lot[other]:
+            lot[one] += lot[other]
+            for thing in lot[other]:
+                lot[thing] = lot[one]
+    return sorted({id(row): sorted(row) for row in lot.values()}.values())
+
+
+def merged_corners(space):
+    """The space's corners, by merging."""
+    return merged(product(range(len(space)), range(4)),
+                  [((b, c), (o, d)) for (b, f, c), (o, _, d) in glueings(space) if c != f])
+
+
+def turn_is_odd(turn):
+    """Whether a turn is an odd one, by the rings that it moves corners in."""
+    rings = merged(range(4), [(c, turn[c]) for c in range(4)])
+    return len(rings) % 2 == 1
+
+
+@cache
+def many_spaces():
+    """All of one block, and spaces of two to four blocks: always the same ones, by a fixed row of numbers.
+
+    The turns of half of those are odd ones alone, so that more of them turn.
+    """
+    return SPACES + MORE_SPACES + one_block_spaces() + [_some_space(seed) for seed in range(240)]
+
+
+def _some_space(seed):
+    many, joinings = 2 + seed % 3, 1 + seed // 3 % (2 * (2 + seed % 3))
+    blocks = [[None] * 4 for _ in range(many)]
+    free = list(product(range(many), range(4)))
+    number = 7919 * seed + 1
+    for _ in range(joinings):
+        number = (number * 1103515245 + 12345) % 2 ** 31
+        block, face = free.pop((number >> 8) % len(free))
+        other, across = free.pop((number >> 16) % len(free))
+        turns = [turn for turn in TURNS if turn[face] == across and (seed < 120 or turn_is_odd(turn))]
+        turn = turns[(number >> 4) % len(turns)]
+        blocks[block][face] = (other, turn)
+        blocks[other][across] = (block, tuple(turn.index(c) for c in range(4)))
+    return tuple(tuple(block) for block in blocks)
 
 
 def glueings(space):

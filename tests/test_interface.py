@@ -9,6 +9,11 @@ FUNCTIONS = {
     "spaces": ["space_of(blocks)", "joined(space, block, face, *, other, turn)", "parted(space, block, face)",
                "beside(one, other)", "renamed(space, order, turns)"],
     "texts": ["space_text(space)", "read_space(text)"],
+    "cells": ["corners_of(space)", "edges_of(space)", "faces_of(space)", "counted(space)", "border(space)",
+              "parts_of(space)", "turning(space)"],
+    "around": ["around(space, corner)", "corner_words(space)", "is_sound(space)"],
+    "numbers": ["arcs(numbers, block, face, *, corner)", "fits(space, numbers)", "is_surface(space, numbers)",
+                "go_together(space, one, other)", "corner_surface(space, corner)", "sum_of(one, other)"],
 }
 CLASSES = {
     "errors": ["RoomError", "NoSpace", "NoFace", "NoTurn", "NoName", "NoLine", "NoCorner", "NoNumbers", "NoSurface",
