@@ -2,7 +2,7 @@
 
 from blockrooms.cells import corners_of, edges_of, is_bent, met_at, turn_sign
 from blockrooms.errors import NoCorner
-from blockrooms.links import rows_of, signs_of
+from blockrooms.links import links_of, places_of, rows_of, signs_of
 from blockrooms.spaces import is_below, space_of
 
 
@@ -58,15 +58,13 @@ def _ties_at(faces, corner):
 
 def _count_borders(points, sides):
     """How many rings the sides make that are not joined."""
-    place = {point: at for at, row in enumerate(points) for point in row}
-    links = {}
+    place = places_of(points)
+    pairs = []
     for row in sides:
         if len(row) == 1:
             block, corner, face = row[0]
-            one, other = [place[(block, corner, end)] for end in range(4) if end not in (corner, face)]
-            links.setdefault(one, []).append(other)
-            links.setdefault(other, []).append(one)
-    return len(rows_of(links))
+            pairs.append([place[(block, corner, end)] for end in range(4) if end not in (corner, face)])
+    return len(rows_of(links_of(pairs)))
 
 
 def corner_words(space):

@@ -18,6 +18,16 @@ def met_at(space, block, spots):
     return told
 
 
+def meetings_of(space):
+    """Where joined faces meet, for each of their corners, from both sides: tuples (here, there).
+
+    Both of them are tuples (block, face, corner).
+    """
+    return [((block, face, corner), (joining[0], joining[1][face], joining[1][corner]))
+            for block, faces in enumerate(space) for face, joining in enumerate(faces) if joining is not None
+            for corner in range(4) if corner != face]
+
+
 def turn_sign(turn):
     """What two blocks that are joined by the turn have to each other: 1, the same sign, or -1, contrary ones."""
     return 1 if is_odd(turn) else -1

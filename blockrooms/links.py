@@ -4,6 +4,20 @@ Links are a dict that has for each thing a list of those that it is linked to; e
 """
 
 
+def links_of(pairs):
+    """The links by which the two things of each pair hang together."""
+    links = {}
+    for one, other in pairs:
+        links.setdefault(one, []).append(other)
+        links.setdefault(other, []).append(one)
+    return links
+
+
+def places_of(rows):
+    """For each thing the place of its row."""
+    return {thing: at for at, row in enumerate(rows) for thing in row}
+
+
 def rows_of(links):
     """The things that hang together, a sorted list of each such lot, by their first ones."""
     met = {}

@@ -3,8 +3,8 @@
 Each block has seven: of triangles, sort c around corner c, and of quads, sort 3 + k between corners 0, k and the rest.
 """
 
-from blockrooms.cells import corners_of
-from blockrooms.errors import NoCorner, NoFace, NoNumbers
+from blockrooms.cells import corners_of, meetings_of
+from blockrooms.errors import NoCorner, NoFace, NoNumbers, NoSurface
 from blockrooms.spaces import is_below, is_listed, is_whole, space_of
 
 SORTS = 7
@@ -36,10 +36,11 @@ def arcs(numbers, block, face, *, corner):
         raise NoFace("there is no such block or face")
     if not is_below(corner, 4) or corner == face:
         raise NoCorner("the face has no such corner")
-    return _arcs_at(numbers, block, face, corner)
+    return arcs_at(numbers, block, face, corner)
 
 
-def _arcs_at(numbers, block, face, corner):
+def arcs_at(numbers, block, face, corner):
+    """How many arcs lie at a face around one of its corners, all of them known to be there."""
     first = SORTS * block
     return numbers[first + corner] + numbers[first + quad_sort(corner, face)]
 
@@ -55,34 +56,37 @@ def quad_sort(one, other):
     return 3 + 6 - one - other
 
 
+def faces_corner_0(sort, corner):
+    """Whether the quads of a sort have the corner on the same side as corner 0."""
+    return corner in (0, sort - 3)
+
+
 def fits(space, numbers):
     """Whether as many arcs lie on both sides of each joined face, around each of its corners."""
     whole = space_of(space)
     _check_numbers(whole, numbers)
-    return all([_fits_at(whole, numbers, block, face) for block in range(len(whole)) for face in range(4)])
-
-
-def _fits_at(space, numbers, block, face):
-    joining = space[block][face]
-    if joining is None:
-        return True
-    other, turn = joining
-    for corner in range(4):
-        if corner != face:
-            there = _arcs_at(numbers, other, turn[face], turn[corner])
-            if _arcs_at(numbers, block, face, corner) != there:
-                return False
-    return True
+    return all([arcs_at(numbers, *here) == arcs_at(numbers, *there) for here, there in meetings_of(whole)])
 
 
 def is_surface(space, numbers):
     """Whether the numbers fit, and no block has two sorts of quads."""
-    whole = space_of(space)
-    return fits(whole, numbers) and all([_quads_agree(numbers, block) for block in range(len(whole))])
+    return fits(space, numbers) and quads_agree(numbers)
 
 
-def _quads_agree(numbers, block):
-    return len([sort for sort in QUADS if numbers[SORTS * block + sort] > 0]) <= 1
+def quads_agree(numbers):
+    """Whether no block has two sorts of quads."""
+    return all([_sorts_of_quads(numbers, first) <= 1 for first in range(0, len(numbers), SORTS)])
+
+
+def _sorts_of_quads(numbers, first):
+    return len([sort for sort in QUADS if numbers[first + sort] > 0])
+
+
+def surface_of(space, numbers):
+    """A list of its own of the numbers of a space's surface."""
+    if not are_numbers_of(space, numbers) or not is_surface(space, numbers):
+        raise NoSurface("the numbers are no surface of the space")
+    return list(numbers)
 
 
 def go_together(space, one, other):

@@ -85,6 +85,27 @@ def merged_corners(space):
                   [((b, c), (o, d)) for (b, f, c), (o, _, d) in glueings(space) if c != f])
 
 
+def merged_edges(space):
+    """The edges, by merging those of blocks in one direction; each row led by the least of all that go up."""
+    lots = merged([(b, *ends) for b in range(len(space)) for ends in permutations(range(4), 2)], _edge_pairs(space))
+    told, named = [], set()
+    for up in product(range(len(space)), range(4), range(4)):
+        if up[1] < up[2] and up not in named:
+            row = [row for row in lots if up in row][0]
+            told.append(row)
+            named.update(row)
+            named.update((b, end, start) for b, start, end in row)
+    return told
+
+
+def _edge_pairs(space):
+    met = glueings(space)
+    for (b, f, c), (o, g, d) in met:
+        for (b2, f2, c2), (o2, g2, d2) in met:
+            if (b, f, o, g) == (b2, f2, o2, g2) and c != c2 and f not in (c, c2):
+                yield (b, c, c2), (o, d, d2)
+
+
 def turn_is_odd(turn):
     """Whether a turn is an odd one, by the rings that it moves corners in."""
     rings = merged(range(4), [(c, turn[c]) for c in range(4)])

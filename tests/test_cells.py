@@ -6,30 +6,9 @@ from itertools import permutations, product
 from blockrooms.cells import corners_of, counted, edges_of, faces_of
 from blockrooms.spaces import beside, parted
 from rooms_for_tests import (ALONE, ASLANT, BALL, BENT, BENT_WITHIN, BOTTLE, CHAIN, CLOSED, DOUBLE, FOLDED, PAIR,
-                             SPACES, TORUS, as_lists, glueings, many_spaces, merged, merged_corners)
+                             SPACES, TORUS, as_lists, glueings, many_spaces, merged, merged_corners, merged_edges)
 
 TOLD = [corners_of, edges_of, faces_of]
-
-
-def merged_edges(space):
-    """The edges, by merging those of blocks in one direction; each row led by the least of all that go up."""
-    lots = merged([(b, *ends) for b in range(len(space)) for ends in permutations(range(4), 2)], _edge_pairs(space))
-    told, named = [], set()
-    for up in product(range(len(space)), range(4), range(4)):
-        if up[1] < up[2] and up not in named:
-            row = [row for row in lots if up in row][0]
-            told.append(row)
-            named.update(row)
-            named.update((b, end, start) for b, start, end in row)
-    return told
-
-
-def _edge_pairs(space):
-    met = glueings(space)
-    for (b, f, c), (o, g, d) in met:
-        for (b2, f2, c2), (o2, g2, d2) in met:
-            if (b, f, o, g) == (b2, f2, o2, g2) and c != c2 and f not in (c, c2):
-                yield (b, c, c2), (o, d, d2)
 
 
 def rows_of_tuples(told, size):

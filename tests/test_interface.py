@@ -14,6 +14,9 @@ FUNCTIONS = {
     "around": ["around(space, corner)", "corner_words(space)", "is_sound(space)"],
     "numbers": ["arcs(numbers, block, face, *, corner)", "fits(space, numbers)", "is_surface(space, numbers)",
                 "go_together(space, one, other)", "corner_surface(space, corner)", "sum_of(one, other)"],
+    "least": ["least_surfaces(space)", "as_sum(space, numbers)", "sums_to(space, numbers, told)"],
+    "pieces": ["pieces_counted(space, numbers)", "surface_parts(space, numbers)", "part_words(space, numbers)"],
+    "rooms": ["rooms_of(space, numbers)"],
 }
 CLASSES = {
     "errors": ["RoomError", "NoSpace", "NoFace", "NoTurn", "NoName", "NoLine", "NoCorner", "NoNumbers", "NoSurface",

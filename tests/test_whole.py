@@ -9,6 +9,7 @@ from blockrooms.numbers import arcs, corner_surface, fits, go_together, is_surfa
 from blockrooms.spaces import beside, joined, parted, renamed
 from rooms_for_tests import (BALL, BENT, BOTTLE, CHAIN, CLOSED, DOUBLE, FOLDED, MORE_SPACES, PAIR, RING, SPACES, TORUS,
                              TURNS, TWISTED, many_spaces, turn_is_odd)
+from surfaces_for_tests import numbers_renamed
 
 
 def some_names(many):
@@ -81,15 +82,8 @@ class TestRenamed(unittest.TestCase):
                 self.surface_held(space, numbers, order, turns)
 
     def surface_held(self, space, numbers, order, turns):
-        told, other = renamed(space, order, turns), [0] * len(numbers)
+        told, other = renamed(space, order, turns), numbers_renamed(numbers, order, turns)
         for place, (block, turn) in enumerate(zip(order, turns)):
-            for corner in range(4):
-                other[7 * place + turn[corner]] = numbers[7 * block + corner]
-            for k in (1, 2, 3):
-                # Its two corners with 0, by new names, on one side, or the other two.
-                side = {turn[0], turn[k]}
-                side = side if 0 in side else {0, 1, 2, 3} - side
-                other[7 * place + 3 + max(side)] = numbers[7 * block + 3 + k]
             for face in range(4):
                 for corner in {0, 1, 2, 3} - {face}:
                     self.assertEqual(arcs(other, place, turn[face], corner=turn[corner]),
