@@ -56,7 +56,7 @@ def quad_sort(one, other):
     return 3 + 6 - one - other
 
 
-def faces_corner_0(sort, corner):
+def is_with_corner_0(sort, corner):
     """Whether the quads of a sort have the corner on the same side as corner 0."""
     return corner in (0, sort - 3)
 

@@ -8,7 +8,7 @@ from itertools import product
 
 from blockrooms.cells import border, edges_of, faces_of, is_bent, meetings_of, met_at, turn_sign
 from blockrooms.links import links_of, places_of, rows_of, signs_of
-from blockrooms.numbers import SORTS, arcs_at, faces_corner_0, quad_sort, surface_of
+from blockrooms.numbers import SORTS, arcs_at, is_with_corner_0, quad_sort, surface_of
 from blockrooms.spaces import space_of
 
 
@@ -86,13 +86,13 @@ def _pieces_at(numbers, block, face, corner):
     sort = quad_sort(corner, face)
     triangles = [(block, corner, at) for at in range(numbers[SORTS * block + corner])]
     quads = [(block, sort, at) for at in range(numbers[SORTS * block + sort])]
-    return triangles + (quads if faces_corner_0(sort, corner) else quads[::-1])
+    return triangles + (quads if is_with_corner_0(sort, corner) else quads[::-1])
 
 
 def _side_towards(piece, corner):
     """Which of its sides a piece has towards a corner that it has an arc around."""
     sort = piece[1]
-    return 1 if sort == corner or faces_corner_0(sort, corner) else -1
+    return 1 if sort == corner or is_with_corner_0(sort, corner) else -1
 
 
 def part_words(space, numbers):

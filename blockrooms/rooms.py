@@ -6,7 +6,7 @@ rest, by the block's sort of quads, seen from corner 0: before the quad of that 
 
 from blockrooms.cells import corners_of, meetings_of
 from blockrooms.links import places_of, rows_of
-from blockrooms.numbers import QUADS, SORTS, faces_corner_0, quad_sort, surface_of
+from blockrooms.numbers import QUADS, SORTS, is_with_corner_0, quad_sort, surface_of
 from blockrooms.spaces import space_of
 
 
@@ -61,7 +61,7 @@ def _regions_from(numbers, block, face, corner):
     """The regions that come to a face, from its corner to its middle."""
     layers = _layers_of(numbers, block)
     sort = _sort_of_quads(numbers, block)
-    if not faces_corner_0(sort, corner):
+    if not is_with_corner_0(sort, corner):
         layers = layers[::-1]
     # The face's middle lies behind just those quads that have arcs around the corner there.
     if sort != quad_sort(corner, face):

@@ -17,10 +17,15 @@ FUNCTIONS = {
     "least": ["least_surfaces(space)", "as_sum(space, numbers)", "sums_to(space, numbers, told)"],
     "pieces": ["pieces_counted(space, numbers)", "surface_parts(space, numbers)", "part_words(space, numbers)"],
     "rooms": ["rooms_of(space, numbers)"],
+    "moves": ["moves_of(space)", "moved(space, move)"],
+    "alike": ["alike(one, other)", "shows_alike(one, other, paper)", "least_name(space)"],
+    "simpler": ["leads(space, way, other)", "way_to(space, other, *, moves, blocks)", "simplest(space, *, moves, blocks)",
+                "taken_off(space)", "takes_off(space, order)"],
 }
 CLASSES = {
     "errors": ["RoomError", "NoSpace", "NoFace", "NoTurn", "NoName", "NoLine", "NoCorner", "NoNumbers", "NoSurface",
                "NoMove", "NoForm", "NoneYet"],
+    "desk": ["Desk"],
 }
 
 
@@ -40,6 +45,13 @@ class TestInterface(unittest.TestCase):
             for name in names:
                 self.assertTrue(inspect.isclass(getattr(module, name)), name)
                 self.assertEqual(getattr(module, name).__module__, module.__name__, name)
+
+    def test_the_desk(self):
+        desk = importlib.import_module("blockrooms.desk").Desk
+        self.assertEqual(str(inspect.signature(desk)), "()")
+        self.assertIn("say", vars(desk))
+        self.assertEqual(str(inspect.signature(desk.say)), "(self, row)")
+        self.assertIs(type(desk().say("show")), str)
 
 
 if __name__ == "__main__":
