@@ -44,8 +44,7 @@ def _blocks_then_turns(pairs):
 
 
 def _carried(first, second, block, place, turn):
-    """What all of the second's part is, where block becomes place by the turn: a dict of (block, turn); None if none.
-    """
+    """What all of the second's part is, where block becomes place by the turn: a dict of (block, turn), or None."""
     found = {place: (block, turn)}
     waiting = [place]
     while waiting:

@@ -62,8 +62,7 @@ def _has_form(space, thing):
 
 def _move_back(space, move):
     # The blocks that come stand behind the others, the first one where it is told here.
-    going, coming = _blocks_changed(space, move)
-    first = len(space) - len(going)
+    first = len(space) - len(blocks_going(space, move))
     if move[0] == "split":
         return ("fuse", first, 0, 1)
     if move[0] == "fuse":
@@ -79,8 +78,7 @@ def blocks_going(space, move):
 
 
 def _blocks_changed(space, move):
-    """The blocks that go, a dict of their corners' marks, and the marks of those that come; None if it can't be done.
-    """
+    """The blocks that go, a dict of their corners' marks, and the marks of those that come; None where it can't be."""
     change = CHANGES[move[0]]
     return change(space, move)
 

@@ -4,7 +4,7 @@ from itertools import combinations
 
 from blockrooms.alike import least_name
 from blockrooms.around import is_sound
-from blockrooms.cells import border, counted, edges_of, parts_of
+from blockrooms.cells import counted, parts_of
 from blockrooms.errors import NoMove
 from blockrooms.moves import GROWTH, blocks_going, done, moved, moves_in
 from blockrooms.spaces import is_listed, is_order, space_of
@@ -129,82 +129,79 @@ def _fewest(space, moves, blocks, known):
 def taken_off(space):
     """The first order in which all blocks are taken off; None where there is none."""
     whole = space_of(space)
-    corners, edges, faces, blocks = counted(whole)
-    # Only a ball is taken off. Most of what is none is known by this, without a search.
-    if corners - edges + faces - blocks != 1 or len(parts_of(whole)) > 1 or not is_sound(whole):
+    # Most spaces that can't be taken off are known without a search, which is long where there are many blocks.
+    if not _may_be_taken_off(whole):
         return None
-    told = _order_from(whole, tuple(range(blocks)), {})
-    return None if told is None else list(told)
+    order = _order_from(whole, tuple(range(len(whole))), {})
+    return None if order is None else list(order)
 
 
-def _order_from(rest, left, known):
-    """The first order, a tuple, that takes off what is left of a space, told with its blocks' first numbers.
+def _may_be_taken_off(space):
+    """Whether the space has what all have that can be taken off: they are balls, no block of them joined to itself."""
+    corners, edges, faces, blocks = counted(space)
+    if corners - edges + faces - blocks != 1 or len(parts_of(space)) > 1 or not is_sound(space):
+        return False
+    return not any([joining is not None and joining[0] == block
+                    for block, row in enumerate(space) for joining in row])
 
-    What was found is kept by these numbers.
-    """
+
+def _order_from(space, left, known):
+    """The first order that takes off the blocks that are left, all of them tuples; what was found is kept by these."""
     if left not in known:
-        known[left] = left if _is_last(rest) else None
-        for at in range(len(left)):
-            behind = _taken(rest, at)
-            order = None if behind is None else _order_from(behind, left[:at] + left[at + 1:], known)
-            if order is not None:
-                known[left] = (left[at],) + order
-                break
+        known[left] = left if _is_alone(space, left) else None
+        for at, block in enumerate(left):
+            if _may_be_taken(space, block, left):
+                order = _order_from(space, left[:at] + left[at + 1:], known)
+                if order is not None:
+                    known[left] = (block,) + order
+                    break
     return known[left]
 
 
 def takes_off(space, order):
     """Whether it is an order in which all blocks are taken off."""
-    rest = space_of(space)
-    if not is_order(order, len(rest)):
+    whole = space_of(space)
+    if not is_order(order, len(whole)):
         return False
-    left = list(range(len(rest)))
+    left = list(range(len(whole)))
     for block in order[:-1]:
-        at = left.index(block)
-        rest = _taken(rest, at)
-        if rest is None:
+        if not _may_be_taken(whole, block, left):
             return False
-        left.pop(at)
-    return _is_last(rest)
+        left.remove(block)
+    return _is_alone(whole, left)
 
 
-def _is_last(space):
-    """Whether it is one block that is joined with nothing."""
-    return len(border(space)) == 4 * len(space) == 4
+def _is_alone(space, left):
+    """Whether one block is left, which is joined with nothing."""
+    return len(left) == 1 and not _joined_faces(space, left[0], left)
 
 
-def _taken(space, block):
-    """The space without a block that may be taken off; None where it may not."""
-    faces = [face for face in range(4) if space[block][face] is not None]
+def _joined_faces(space, block, left):
+    """The faces by which a block is joined to those that are left."""
+    return [face for face in range(4) if space[block][face] is not None and space[block][face][0] in left]
+
+
+def _may_be_taken(space, block, left):
+    """Whether a block may be taken off, which is one of those that are left."""
+    faces = _joined_faces(space, block, left)
     if not 1 <= len(faces) <= 3 or block in [space[block][face][0] for face in faces]:
-        return None
-    rest = tuple([_row_without(row, block) for at, row in enumerate(space) if at != block])
-    edges = edges_of(rest)
-    for one, other in combinations(faces, 2):
-        start, end = [corner for corner in range(4) if corner not in (one, other)]
-        cells = [_cell_across(space[block][face], start, end, block) for face in (one, other)]
-        if not any([_has_both(edge, cells) for edge in edges]):
-            return None
-    return rest
+        return False
+    return all([_is_one_edge(space, block, pair, left) for pair in combinations(faces, 2)])
 
 
-def _row_without(row, block):
-    """A block's row, where another block is there no more."""
-    return tuple([None if joining is None or joining[0] == block else (_place_without(joining[0], block), joining[1])
-                  for joining in row])
-
-
-def _place_without(place, block):
-    return place - 1 if place > block else place
-
-
-def _cell_across(joining, start, end, block):
-    """The edge from start to end of a block that is there no more, as it is seen from across a face of it."""
-    other, turn = joining
-    return (_place_without(other, block), turn[start], turn[end])
-
-
-def _has_both(edge, cells):
-    """Whether both edges of blocks, with their directions, belong to the edge in one direction."""
-    contrary = [(block, end, start) for block, start, end in cells]
-    return all([cell in edge for cell in cells]) or all([cell in edge for cell in contrary])
+def _is_one_edge(space, block, faces, left):
+    """Whether the edge of two of a block's faces is, without the block, one edge in one direction from both."""
+    ends = [corner for corner in range(4) if corner not in faces]
+    start, end = ends
+    here, face = block, faces[0]
+    # What is left around the edge lies in a row, at whose one end is the one face's other side. So the other face's has
+    # to be at the other end, behind which the block is met again, by this edge.
+    while True:
+        joining = space[here][face]
+        if joining is None or joining[0] not in left:
+            return False
+        here, turn = joining
+        start, end, met = turn[start], turn[end], turn[face]
+        if here == block:
+            return [start, end] == ends
+        face = 6 - start - end - met

@@ -33,6 +33,22 @@ def reached_spaces():
     return [walked(space, at + 31 * steps, steps, 7) for at, space in enumerate(bases) for steps in (1, 3, 5)]
 
 
+def four_that_meet():
+    """Four blocks around a corner, each two joined by one face there, in all ways; around it lies not always a ball."""
+    told = []
+    for swaps in product((False, True), repeat=6):
+        space = (LONE,) * 4
+        for (one, other), swap in zip(combinations(range(4), 2), swaps):
+            # Each block's corner is 0; its face k + 1 leads to the k-th of the others.
+            face, across = 1 + other - (other > one), 1 + one - (one > other)
+            low, high = sorted({1, 2, 3} - {across})[::-1 if swap else 1]
+            first, last = sorted({1, 2, 3} - {face})
+            turn = {0: 0, face: across, first: low, last: high}
+            space = joined(space, one, face, other=other, turn=[turn[corner] for corner in range(4)])
+        told.append(space)
+    return told
+
+
 def closed_ball_pair():
     """Two balls of four blocks each, joined along their whole rims: a space without a border."""
     space = beside(BALL, BALL)
@@ -45,7 +61,8 @@ def closed_ball_pair():
 def spaces_with_moves():
     """Spaces in which moves of all kinds can be done, and such where blocks are joined by several faces."""
     fans = [FOUR_AROUND, THREE_AROUND, closed_ball_pair()]
-    return SPACES + MORE_SPACES + fans + reached_spaces() + [beside(RING, BALL), beside(ASLANT, TORUS), (LONE,) * 3]
+    parts = [beside(RING, BALL), beside(ASLANT, TORUS), (LONE,) * 3]
+    return SPACES + MORE_SPACES + fans + four_that_meet()[::7] + reached_spaces() + parts
 
 
 def can_be_done(space, move):

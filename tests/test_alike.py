@@ -73,8 +73,8 @@ class TestAlike(unittest.TestCase):
         self.assertEqual(alike(FOLDED, other), ([0], [(2, 3, 0, 1)]))
 
     def test_none(self):
-        for one, other in ((ALONE, FOLDED), (ALONE, (LONE, LONE)), (PAIR, (LONE, LONE)), (CLOSED, BOTTLE), (FOLDED, BENT),
-                           (FOLDED, TWISTED), (DOUBLE, TORUS), (PAIR, RING), (BALL, closed_ball_pair()),
+        for one, other in ((ALONE, FOLDED), (ALONE, (LONE, LONE)), (PAIR, (LONE, LONE)), (CLOSED, BOTTLE),
+                           (FOLDED, BENT), (FOLDED, TWISTED), (DOUBLE, TORUS), (PAIR, RING), (BALL, closed_ball_pair()),
                            (beside(PAIR, PAIR), beside(CHAIN, ALONE)), (FOLDED, ASLANT)):
             self.assertIsNone(alike(one, other))
             self.assertIsNone(alike(other, one))
@@ -173,16 +173,19 @@ class TestShowsAlike(unittest.TestCase):
 
     def test_false(self):
         for space in SPACES + MORE_SPACES:
-            self.assertIs(shows_alike(space, beside(space, ALONE), (list(range(len(space))), [SAME] * len(space))), False)
+            names = (list(range(len(space))), [SAME] * len(space))
+            self.assertIs(shows_alike(space, beside(space, ALONE), names), False)
             matches = all_matches(space, space)
             for order, turns in some_names(len(space)):
                 self.assertIs(shows_alike(space, space, (order, turns)), (tuple(order), tuple(turns)) in matches)
 
     def test_of_lists_of_anything(self):
-        for thing in ODD_THINGS + [[], (), [0, 1], [0, 0], [1], [-1], [True], [0.0], [[0]], [None], 10 ** 29, [10 ** 29]]:
+        for thing in ODD_THINGS + [[], (), [0, 1], [0, 0], [1], [-1], [True], [0.0], [[0]], [None], 10 ** 29,
+                                   [10 ** 29]]:
             self.assertIs(shows_alike(ALONE, ALONE, (thing, [SAME])), False)
-        for thing in ODD_THINGS + [[], (), [SAME, SAME], SAME, [0], [None], [()], [[0, 1, 2]], [[0, 1, 2, 2]], [(0, 1, 2, 4)],
-                                   [[0, 1, 2, True]], ["0123"], [[0, 1, 2, 3, 4]], [[0, 1, 2, [3]]], [{0, 1, 2, 3}]]:
+        for thing in ODD_THINGS + [[], (), [SAME, SAME], SAME, [0], [None], [()], [[0, 1, 2]], [[0, 1, 2, 2]],
+                                   [(0, 1, 2, 4)], [[0, 1, 2, True]], ["0123"], [[0, 1, 2, 3, 4]],
+                                   [[0, 1, 2, [3]]], [{0, 1, 2, 3}]]:
             self.assertIs(shows_alike(ALONE, ALONE, ([0], thing)), False)
 
     def test_of_anything_else(self):
@@ -227,7 +230,8 @@ class TestLeastName(unittest.TestCase):
     def test_the_same_of_all_renamings(self):
         for at, space in enumerate(many_spaces() + reached_spaces()):
             for step in range(3):
-                self.assertEqual(least_name(renamed(space, *some_names_of(len(space), 3 * at + step))), least_name(space))
+                other = renamed(space, *some_names_of(len(space), 3 * at + step))
+                self.assertEqual(least_name(other), least_name(space))
 
     def test_below_all_renamings_that_are_tried(self):
         for space in reached_spaces():

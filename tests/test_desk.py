@@ -233,12 +233,13 @@ class TestNoForm(DeskTests):
 
     def test_joinings_of_no_form(self):
         desk = desk_with(BALL)
-        for word in ("0:012", "0:01234", "0:0122", "0:0124", "00:0123", "01:0123", ":0123", "0:", "0", "-", "0:0123:", "",
-                     "0;0123", "a:0123", "-1:0123", "0:0123 1", "0: 0123", "0 0123", "1:abcd", "0:0123\n", "+1:0123",
+        for word in ("0:012", "0:01234", "0:0122", "0:0124", "00:0123", "01:0123", ":0123", "0:", "0", "-", "0:0123:",
+                     "", "0;0123", "a:0123", "-1:0123", "0:0123 1", "0: 0123", "0 0123", "1:abcd",
+                     "0:0123\n", "+1:0123",
                      THIRTY + "9:0123"):
             self.refused(NoForm, desk, "join 0 0 " + word)
-        for row in ("join", "join 0", "join 0 0", "join 0 0:0123", "join 0:0123 0 0", "join 0  0:0123", "join 00 0 0:1023",
-                    "join 0 00 0:1023", "join a 0 0:1023", "join 0 0 0:1023 ", "join -1 0 0:1023"):
+        for row in ("join", "join 0", "join 0 0", "join 0 0:0123", "join 0:0123 0 0", "join 0  0:0123",
+                    "join 00 0 0:1023", "join 0 00 0:1023", "join a 0 0:1023", "join 0 0 0:1023 ", "join -1 0 0:1023"):
             self.refused(NoForm, desk, row)
 
     def test_lists_of_no_form(self):
@@ -268,13 +269,14 @@ class TestRefused(DeskTests):
     def test_no_face(self):
         desk = desk_with(PAIR)
         for row in ("join 2 0 1:0123", "join 0 4 1:0123", "join 0 0 2:0123", "join 0 3 1:0123", "join 0 0 1:3120",
-                    "join 0 0 0:0123", "join 1 2 1:0123", "join 0 0 0:3120", "part 0 0", "part 1 2", "part 2 0", "part 0 4"):
+                    "join 0 0 0:0123", "join 1 2 1:0123", "join 0 0 0:3120", "part 0 0", "part 1 2", "part 2 0",
+                    "part 0 4"):
             self.refused(NoFace, desk, row)
 
     def test_no_move(self):
         desk = desk_with(BALL)
-        for row in ("fill 4", "split 0 0", "split 4 0", "split 0 4", "drain 0 1", "drain 4 0", "drain 0 4", "fuse 0 1 0",
-                    "fuse 0 1 1", "fuse 0 1 2", "fuse 0 0 4", "fuse 4 0 1"):
+        for row in ("fill 4", "split 0 0", "split 4 0", "split 0 4", "drain 0 1", "drain 4 0", "drain 0 4",
+                    "fuse 0 1 0", "fuse 0 1 1", "fuse 0 1 2", "fuse 0 0 4", "fuse 4 0 1"):
             self.refused(NoMove, desk, row)
         words = {" ".join(map(str, move)) for move in moves_of(BALL)}
         for block, one, other in product(range(5), repeat=3):
@@ -284,14 +286,14 @@ class TestRefused(DeskTests):
 
     def test_no_surface(self):
         desk = desk_with(FOLDED)
-        for row in ("rooms 0", "rooms 0,0,0,0,0,0", "rooms 0,0,0,0,0,0,0,0", "rooms 1,0,0,0,0,0,0", "rooms 0,0,0,0,0,1,1",
-                    "rooms " + ",".join(["0"] * 14)):
+        for row in ("rooms 0", "rooms 0,0,0,0,0,0", "rooms 0,0,0,0,0,0,0,0", "rooms 1,0,0,0,0,0,0",
+                    "rooms 0,0,0,0,0,1,1", "rooms " + ",".join(["0"] * 14)):
             self.refused(NoSurface, desk, row)
 
     def test_what_is_refused_changes_nothing(self):
         desk = desk_with(PAIR)
-        for error, row in ((NoForm, "block 1"), (NoFace, "join 0 3 1:0213"), (NoFace, "part 0 0"), (NoMove, "split 0 0"),
-                           (NoMove, "drain 0 0"), (NoSurface, "rooms 1"), (NoForm, "undone")):
+        for error, row in ((NoForm, "block 1"), (NoFace, "join 0 3 1:0213"), (NoFace, "part 0 0"),
+                           (NoMove, "split 0 0"), (NoMove, "drain 0 0"), (NoSurface, "rooms 1"), (NoForm, "undone")):
             self.refused(error, desk, row)
         self.assertEqual(desk.say("undo"), "ok")
         self.assertEqual(desk.say("show"), "- - - -/- - - -")

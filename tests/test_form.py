@@ -71,6 +71,54 @@ class TestForm(unittest.TestCase):
                 if isinstance(node, ast.Call) and isinstance(node.func, ast.Attribute):
                     self.assertIn(node.func.attr, [*METHODS, "__init__", *own], (name, node.lineno))
 
+    def test_is_stands_beside_none_and_truths_alone(self):
+        for name, tree in trees():
+            for node in ast.walk(tree):
+                if isinstance(node, ast.Compare) and any(isinstance(sign, (ast.Is, ast.IsNot)) for sign in node.ops):
+                    self.assertEqual(len(node.ops), 1, (name, node.lineno))
+                    self.assertIsInstance(node.comparators[0], ast.Constant, (name, node.lineno))
+                    self.assertIn(node.comparators[0].value, (None, True, False), (name, node.lineno))
+
+    def test_no_two_files_import_from_each_other(self):
+        met = {name[:-3]: {node.module.split(".")[1] for node in ast.walk(tree) if isinstance(node, ast.ImportFrom)
+                           and node.module.startswith("blockrooms.")} for name, tree in trees()}
+        while met:
+            free = [name for name in met if not met[name] & set(met)]
+            self.assertNotEqual(free, [], met)
+            met = {name: met[name] for name in met if name not in free}
+
+    def test_imported_names_are_used_and_mean_nothing_else(self):
+        for name, tree in trees():
+            imported = [part.name for node in tree.body if isinstance(node, ast.ImportFrom) for part in node.names]
+            names = [node for node in ast.walk(tree) if isinstance(node, ast.Name)]
+            for word in imported:
+                self.assertIn(word, [node.id for node in names], (name, word))
+            assigned = [node.id for node in names if not isinstance(node.ctx, ast.Load)]
+            assigned += [node.arg for node in ast.walk(tree) if isinstance(node, ast.arg)]
+            assigned += [node.name for node in ast.walk(tree) if isinstance(node, (ast.FunctionDef, ast.ClassDef))]
+            self.assertEqual(set(imported) & set(assigned), set(), name)
+
+    def test_each_name_is_bound_once_at_module_level(self):
+        for name, tree in trees():
+            bound = [part.name for node in tree.body if isinstance(node, ast.ImportFrom) for part in node.names]
+            bound += [node.name for node in tree.body if isinstance(node, (ast.FunctionDef, ast.ClassDef))]
+            bound += [node.targets[0].id for node in tree.body if isinstance(node, ast.Assign)]
+            self.assertEqual(len(bound), len(set(bound)), name)
+
+    def test_handlers_name_errors_of_the_package(self):
+        for name, tree in trees():
+            for node in ast.walk(tree):
+                if isinstance(node, ast.ExceptHandler):
+                    self.assertIsInstance(node.type, ast.Name, (name, node.lineno))
+                    self.assertTrue(node.type.id.startswith("No"), (name, node.lineno))
+
+    def test_no_generators_no_lambdas_no_decorators(self):
+        for name, tree in trees():
+            for node in ast.walk(tree):
+                self.assertNotIsInstance(node, (ast.GeneratorExp, ast.Lambda, ast.Yield, ast.SetComp), name)
+                if isinstance(node, (ast.FunctionDef, ast.ClassDef)):
+                    self.assertEqual(node.decorator_list, [], (name, node.name))
+
 
 if __name__ == "__main__":
     unittest.main()

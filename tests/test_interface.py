@@ -19,8 +19,8 @@ FUNCTIONS = {
     "rooms": ["rooms_of(space, numbers)"],
     "moves": ["moves_of(space)", "moved(space, move)"],
     "alike": ["alike(one, other)", "shows_alike(one, other, paper)", "least_name(space)"],
-    "simpler": ["leads(space, way, other)", "way_to(space, other, *, moves, blocks)", "simplest(space, *, moves, blocks)",
-                "taken_off(space)", "takes_off(space, order)"],
+    "simpler": ["leads(space, way, other)", "way_to(space, other, *, moves, blocks)",
+                "simplest(space, *, moves, blocks)", "taken_off(space)", "takes_off(space, order)"],
 }
 CLASSES = {
     "errors": ["RoomError", "NoSpace", "NoFace", "NoTurn", "NoName", "NoLine", "NoCorner", "NoNumbers", "NoSurface",

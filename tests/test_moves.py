@@ -7,12 +7,12 @@ from blockrooms.alike import least_name
 from blockrooms.around import corner_words
 from blockrooms.cells import corners_of, edges_of
 from blockrooms.errors import NoMove
-from blockrooms.moves import moved, moves_of
+from blockrooms.moves import GROWTH, moved, moves_of
 from blockrooms.spaces import beside, joined, parted, space_of
 from rooms_for_tests import (ALONE, ASLANT, BALL, BENT, BENT_WITHIN, BOTTLE, CHAIN, CLOSED, DOUBLE, FOLDED, LONE,
                              ODD_THINGS, PAIR, SAME, TORUS, TURNS, all_tuples, as_lists, glueings)
 from moves_for_tests import (FOUR_AROUND, ROWS, THREE_AROUND, all_names, can_be_done, closed_ball_pair, flags_behind,
-                             spaces_with_moves, walked)
+                             four_that_meet, spaces_with_moves, walked)
 
 # Three blocks behind a "split" of PAIR's face.
 SPLIT_PAIR = ((None, None, (1, (0, 1, 2, 3)), (2, (0, 1, 3, 2))),
@@ -215,6 +215,20 @@ class TestDrain(MoveTests):
             for block, corner in product(range(len(space)), range(4)):
                 self.cannot(space, ("drain", block, corner))
 
+    def test_a_corner_of_four_that_meet_but_are_not_around_a_ball(self):
+        words = {"inner": 0, "odd": 0}
+        for space in four_that_meet():
+            place = [at for at, row in enumerate(corners_of(space)) if (0, 0) in row][0]
+            self.assertEqual(len(corners_of(space)[place]), 4)
+            word = corner_words(space)[place]
+            words[word] += 1
+            for block in range(4):
+                if word == "odd":
+                    self.cannot(space, ("drain", block, 0))
+                else:
+                    self.assertIn(("drain", block, 0), moves_of(space))
+        self.assertGreater(min(words.values()), 0)
+
     def test_an_inner_corner_of_fewer_or_of_more_than_four(self):
         for block, corner in product(range(2), range(4)):
             self.cannot(DOUBLE, ("drain", block, corner))
@@ -277,6 +291,7 @@ class TestMoves(MoveTests):
         self.assertGreater(min(words.values()), 30)
 
     def test_each_can_be_done_and_no_other(self):
+        self.assertEqual(GROWTH, ROWS)
         for space in spaces_with_moves()[::3]:
             told = moves_of(space)
             for move in all_names(len(space)):
@@ -314,11 +329,13 @@ class TestMoves(MoveTests):
         things = ODD_THINGS + [
             (), [], ("fill",), ("fill", 4), ("fill", -1), ("fill", True), ("fill", "0"), ("fill", 0.0), ("fill", None),
             ("fill", 0, 0), ("fill", 10 ** 29), ("fill", [0]), (0, "fill"), "fill", "fill 0", ("Fill", 0), (b"fill", 0),
-            ("drain", 0), ("drain", 0, 4), ("drain", 0, -4), ("drain", 0, False), ("drain", False, 0), ("drain", 0, 0, 0),
-            ("split", 0), ("split", 0, 4), ("split", 0, "1"), ("split", 0, 1, 0), ("split", 1.0, 0), ("split", 0, True),
+            ("drain", 0), ("drain", 0, 4), ("drain", 0, -4), ("drain", 0, False), ("drain", False, 0),
+            ("drain", 0, 0, 0), ("split", 0), ("split", 0, 4), ("split", 0, "1"), ("split", 0, 1, 0), ("split", 1.0, 0),
+            ("split", 0, True),
             ("fuse", 0, 0), ("fuse", 0, 1, 0), ("fuse", 0, 1, 1), ("fuse", 0, 0, 4), ("fuse", 0, -1, 1),
-            ("fuse", 0, False, 1), ("fuse", 0, 0, True), ("fuse", 4, 0, 1), ("fuse", 0, 0, 1, 0), ("undo",), ("join", 0),
-            ("", 0), ([], 0), (["fill"], 0), ({}, 0), (None, 0), (0, 0), {"fill": 0}, {"fill", 0}, [["fill", 0]],
+            ("fuse", 0, False, 1), ("fuse", 0, 0, True), ("fuse", 4, 0, 1), ("fuse", 0, 0, 1, 0), ("undo",),
+            ("join", 0), ("", 0), ([], 0), (["fill"], 0), ({}, 0), (None, 0), (0, 0), {"fill": 0}, {"fill", 0},
+            [["fill", 0]],
             [("fill", 0)], ("fill", (0,)), ("fuse", 0, [0, 1]), 10 ** 29, -1, 1, 2]
         for thing in things:
             self.refused(BALL, thing)

@@ -248,7 +248,8 @@ class TestHandedInAndTold(unittest.TestCase):
             self.assertEqual(pieces_counted(both, numbers), tuple(map(sum, zip(*counts))))
             pairs = [(part + [0] * len(other[1]), words) for part, words in
                      zip(surface_parts(*one), part_words(*one))] + \
-                    [([0] * len(one[1]) + part, words) for part, words in zip(surface_parts(*other), part_words(*other))]
+                    [([0] * len(one[1]) + part, words) for part, words in
+                     zip(surface_parts(*other), part_words(*other))]
             self.assertEqual(list(zip(surface_parts(both, numbers), part_words(both, numbers))), sorted(pairs))
 
 

@@ -76,8 +76,8 @@ class TestLeads(unittest.TestCase):
         self.assertIs(leads(BALL, [("drain", 0, 0), ("fill", 3), ("fill", 0)], BALL), False)
 
     def test_what_is_no_move(self):
-        for move in ODD_THINGS + [[], (), ("fill",), ("fill", True), ("fill", "0"), ("grow", 0), [["fill", 0]], "fill 0",
-                                  ("fill", 0, 0), ("fuse", 0, 1, 0), 10 ** 29, (0, 0), ([], 0)]:
+        for move in ODD_THINGS + [[], (), ("fill",), ("fill", True), ("fill", "0"), ("grow", 0), [["fill", 0]],
+                                  "fill 0", ("fill", 0, 0), ("fuse", 0, 1, 0), 10 ** 29, (0, 0), ([], 0)]:
             self.assertIs(leads(ALONE, [move], BALL), False)
             self.assertIs(leads(ALONE, [("fill", 0), move], BALL), False)
             self.assertIs(leads(ALONE, [move, ("fill", 0)], BALL), False)
@@ -104,7 +104,7 @@ class TestWayTo(unittest.TestCase):
         self.assertEqual(way_to(BALL, ALONE, moves=3, blocks=8), [("drain", 0, 0)])
         self.assertEqual(way_to(PAIR, THREE_AROUND, moves=2, blocks=5), [("split", 0, 3)])
         self.assertEqual(way_to(beside(ALONE, BALL), beside(BALL, ALONE), moves=1, blocks=9), [])
-        self.assertEqual(way_to(beside(ALONE, ALONE), beside(BALL, BALL), moves=2, blocks=8), [("fill", 0), ("fill", 0)])
+        self.assertEqual(way_to(beside(ALONE, ALONE), beside(BALL, BALL), moves=2, blocks=8), [("fill", 0)] * 2)
 
     def test_none_within_the_bounds(self):
         self.assertIsNone(way_to(ALONE, BALL, moves=0, blocks=8))
@@ -113,6 +113,11 @@ class TestWayTo(unittest.TestCase):
         self.assertIsNone(way_to(beside(ALONE, ALONE), beside(BALL, BALL), moves=1, blocks=8))
         self.assertIsNone(way_to(beside(ALONE, ALONE), beside(BALL, BALL), moves=2, blocks=7))
         self.assertIsNone(way_to(PAIR, ALONE, moves=3, blocks=8))
+        # A block filled, and one of the edges within fused: no other way leads there.
+        three = done(ALONE, [("fill", 0), ("fuse", 0, 0, 1)])
+        self.assertEqual(len(three), 3)
+        self.assertIsNone(way_to(ALONE, three, moves=2, blocks=3))
+        self.assertEqual(way_to(ALONE, three, moves=2, blocks=4), [("fill", 0), ("fuse", 0, 0, 1)])
         # The first space may have more blocks than the bound, those behind moves not.
         self.assertEqual(way_to(BALL, ALONE, moves=1, blocks=1), [("drain", 0, 0)])
         self.assertIsNone(way_to(BALL, ALONE, moves=1, blocks=0))
@@ -220,7 +225,8 @@ def may_be_taken(space, block, left):
     if not 1 <= len(faces) <= 3 or block in [space[block][f][0] for f in faces]:
         return False
     rest = [b for b in left if b != block]
-    own = tuple(tuple(None if j is None or j[0] not in rest else (rest.index(j[0]), j[1]) for j in space[b]) for b in rest)
+    own = tuple(tuple(None if j is None or j[0] not in rest else (rest.index(j[0]), j[1]) for j in space[b])
+                for b in rest)
     rows = merged_edges(own)
     rows += [[(b, end, start) for b, start, end in row] for row in rows]
     for one, other in combinations(faces, 2):
@@ -297,6 +303,9 @@ class TestTakenOff(unittest.TestCase):
         self.assertIsNone(taken_off(ASLANT))
         space = joined(PAIR, 1, 0, other=1, turn=(1, 0, 2, 3))
         self.assertIsNone(taken_off(space))
+        for order in ([0, 1], [1, 0]):
+            self.assertIs(takes_off(space, order), False)
+            self.assertIs(takes_off(beside(FOLDED, ALONE), order), False)
 
     def test_the_first_order_by_trying(self):
         found = {True: 0, False: 0}
@@ -353,9 +362,9 @@ class TestTakesOff(unittest.TestCase):
         self.assertIs(takes_off(space, [1, 0]), False)
 
     def test_of_any_list(self):
-        for order in ODD_THINGS + [[], (), [0], [0, 1, 2], [0, 0], [1, 1], [0, 2], [0, -1], [-1, 0], [0, True], [False, 1],
-                                   [0.0, 1], ["0", "1"], "01", [[0], [1]], [None, 0], [0, None], [0, 10 ** 29], [[], {}],
-                                   [object(), 0], range(2), {0: 0, 1: 1}, b"01"]:
+        for order in ODD_THINGS + [[], (), [0], [0, 1, 2], [0, 0], [1, 1], [0, 2], [0, -1], [-1, 0], [0, True],
+                                   [False, 1], [0.0, 1], ["0", "1"], "01", [[0], [1]], [None, 0], [0, None],
+                                   [0, 10 ** 29], [[], {}], [object(), 0], range(2), {0: 0, 1: 1}, b"01"]:
             self.assertIs(takes_off(PAIR, order), False, order)
         for order in ([0, 1], [1, 0], (0, 1)):
             self.assertIs(takes_off(PAIR, order), True)
