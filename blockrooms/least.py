@@ -33,8 +33,8 @@ def _least_that_meet(found, here, there):
     for numbers in found:
         heappush(waiting, (sum(numbers), numbers))
     seen = set(found)
-    # By size, so that all that a sum may be put together of is met ahead of it. Those with as many arcs more here, or
-    # more there, are kept along: with each other they make sums that have as many on both sides.
+    # By size, so that all that a sum may be put together of is met ahead of it. Those that have more arcs here, or more
+    # there, are kept, too: with each other they make sums that have as many on both sides.
     met = []
     while waiting:
         size, numbers = heappop(waiting)
